@@ -1,0 +1,1 @@
+"""Labelhouse: label printers, from commands to the last label of a run."""
