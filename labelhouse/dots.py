@@ -74,20 +74,6 @@ def dot_list(machine, settings, program, x, y):
     return list_of(writes(machine, settings, program, x, y))
 
 
-def ways_of(told):
-    """A list of pairs: what is known of GLYPH DOTS on each way through a LIST, and its PARITY."""
-    branches, last = told
-    ways = []
-    white = []
-    for glyph, parity in branches:
-        known = {dot: 0 for dot in white}
-        known[glyph] = 1
-        ways.append((known, parity))
-        white.append(glyph)
-    ways.append(({dot: 0 for dot in white}, last))
-    return ways
-
-
 def glyph_dots_of(told):
     """The ascending list of all GLYPH DOTS that are found in a LIST."""
     branches, last = told
@@ -101,10 +87,13 @@ def glyph_dots_of(told):
 
 def share_of(told):
     """The SHARE that a LIST tells."""
+    branches, last = told
     many = len(glyph_dots_of(told))
+    parities = [parity for _, parity in branches] + [last]
     black = 0
-    for known, (glyphs, odd) in ways_of(told):
-        looks = 1 << (many - len(known))
+    for at, (glyphs, odd) in enumerate(parities):
+        # On the way to a branch, it and those ahead are known; on the way to the last parity, all branches are.
+        looks = 1 << (many - min(at + 1, len(branches)))
         if len(glyphs) > 0:
             # A glyph of which nothing is known makes just half of the looks odd.
             black += looks // 2
@@ -149,26 +138,92 @@ def is_list(value):
     return is_parity(value[1], known)
 
 
-def put_in(parity, known):
-    """A PARITY with what is known of GLYPH DOTS put in."""
-    glyphs, odd = parity
-    odd += sum([known[glyph] for glyph in glyphs if glyph in known])
-    return [glyph for glyph in glyphs if glyph not in known], odd % 2
+def bits_of(glyphs, places):
+    """The sum of the bits of GLYPH DOTS, each at its place."""
+    return sum([1 << places[glyph] for glyph in glyphs])
 
 
-def same_where_both(one, other):
-    """Whether two ways through LISTS tell the same by all LOOKS that go both."""
-    known = {dot: worth for dot, worth in one[0].items()}
-    for dot, worth in other[0].items():
-        if dot in known and known[dot] != worth:
-            return True
-        known[dot] = worth
-    return put_in(one[1], known) == put_in(other[1], known)
+def ways_of(told, places):
+    """The ways through a LIST: tuples (WHITE, BLACK, GLYPHS, ODD), GLYPH DOTS being bits."""
+    branches, last = told
+    ways = []
+    white = 0
+    for glyph, (glyphs, odd) in branches:
+        bit = 1 << places[glyph]
+        ways.append((white, bit, bits_of(glyphs, places), odd))
+        white = white | bit
+    ways.append((white, 0, bits_of(last[0], places), last[1]))
+    return ways
+
+
+def parting_bits(way, far):
+    """The bits of the GLYPH DOTS that are black in a LOOK that goes two ways which tell unlike; or None."""
+    white, black, glyphs, odd = way
+    far_white, far_black, far_glyphs, far_odd = far
+    if black & far_white != 0 or far_black & white != 0:
+        return None
+    if glyphs & far_black != 0:
+        odd = 1 - odd
+    if far_glyphs & black != 0:
+        far_odd = 1 - far_odd
+    if odd != far_odd:
+        return black | far_black
+    unlike = (glyphs ^ far_glyphs) & ~(white | black | far_white | far_black)
+    if unlike == 0:
+        return None
+    return black | far_black | (unlike & -unlike)
+
+
+def parting(one, other):
+    """The GLYPH DOTS that alone are black in a LOOK by which two LISTS tell unlike; None if they are ALIKE."""
+    if one == other:
+        return None
+    places = {}
+    for glyph in glyph_dots_of(one) + glyph_dots_of(other):
+        places.setdefault(glyph, len(places))
+    others = ways_of(other, places)
+    for way in ways_of(one, places):
+        for far in others:
+            bits = parting_bits(way, far)
+            if bits is not None:
+                return [glyph for glyph, at in places.items() if bits >> at & 1 == 1]
+    return None
+
+
+def pattern(one, other):
+    """Two rows of WRITES with numbers for their SOURCES: what has the same pattern is ALIKE or not as well."""
+    numbers = {(): 0, "clear": 1}
+    rows = [[(write[0], numbers.setdefault(write[-1], len(numbers))) for write in told] for told in (one, other)]
+    return tuple(rows[0]), tuple(rows[1])
+
+
+def parting_writes(one, other, known):
+    """As parting, of the LISTS that two rows of WRITES tell; known keeps the patterns that are ALIKE."""
+    if last_ground(one) == last_ground(other):
+        return None
+    key = pattern(one, other)
+    if key not in known:
+        black = parting(list_of(one), list_of(other))
+        if black is not None:
+            return black
+        known[key] = True
+    return None
+
+
+def unlike_dot(machine, drawn, others):
+    """The first dot, row by row, that is not ALIKE by two lists of strokes, and what is black then; or None."""
+    wide, high = machine[0]
+    known = {}
+    for y in range(high):
+        for x in range(wide):
+            black = parting_writes(writes_at(drawn, (x, y)), writes_at(others, (x, y)), known)
+            if black is not None:
+                return x, y, black
+    return None
 
 
 def dots_alike(one, other):
     """Whether two LISTS are ALIKE."""
     if not is_list(one) or not is_list(other):
         raise OutOfPlace("this is no list of a dot")
-    others = ways_of(other)
-    return all([same_where_both(way, far) for way in ways_of(one) for far in others])
+    return parting(one, other) is None

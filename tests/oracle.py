@@ -222,3 +222,72 @@ def whole_cuts(machine, settings, program):
         if draws(command) and is_cut(machine, settings, command):
             yield command
         settings = after(settings, command)
+
+
+def unlike(one, other):
+    """Whether some LOOK tells two rows of WRITES apart."""
+    if one == other:
+        return False
+    return any(colour(one, black) != colour(other, black) for black in blacks(dots_in_writes(one) | dots_in_writes(other)))
+
+
+def unlike_dots(machine, settings, one, settings_of_other, other):
+    """The dots, row by row, at which two programs, each begun with its settings, can print something else."""
+    ones, others = all_writes(machine, settings, one), all_writes(machine, settings_of_other, other)
+    wide, high = machine[0]
+    return [(x, y) for y in range(high) for x in range(wide) if unlike(ones[x, y], others[x, y])]
+
+
+USES = {
+    "box": ("x", "y", "turn", "ink"), "clear": ("x", "y", "turn"), "field": ("x", "y", "turn", "font", "scale", "ink"),
+}
+TELLS = {
+    "home": ("x", "y"), "plain": ("x", "y", "turn", "font", "scale", "ink"),
+    "turn": ("turn",), "font": ("font",), "scale": ("scale",), "ink": ("ink",),
+}
+
+
+def reads(program):
+    found = set()
+    for number, command in enumerate(program):
+        for name in USES.get(command[0], ()):
+            if not any(name in TELLS.get(ahead[0], ()) for ahead in program[:number]):
+                found.add(name)
+    return tuple(sorted(found))
+
+
+def reach_of(machine, one, other):
+    """So far from (0, 0) that from an ORIGIN farther away nothing that hangs on it is on the label."""
+    places = sum(abs(command[1]) + abs(command[2]) for command in one + other if len(command) >= 3)
+    lengths = [command[3] + command[4] for command in one + other if command[0] in ("box", "clear")]
+    fields = [3 * most * cell + 3 * tall for _, most in machine[2] for cell, tall in machine[1]]
+    return places + sum(machine[0]) + max(lengths + fields + [0])
+
+
+def some_starts(machine, one, other):
+    """All SETTINGS that are enough to tell whether two programs are alike."""
+    names = set(reads(one)) | set(reads(other))
+    far = reach_of(machine, one, other)
+    places = [(x, y) for x in range(-far, far + 1) for y in range(-far, far + 1)] if "x" in names else [(0, 0)]
+    return [
+        place + (turn, font, scale, ink)
+        for turn in (range(4) if "turn" in names else (0,))
+        for font in (range(len(machine[1])) if "font" in names else (0,))
+        for scale in ((1, 2, 3) if "scale" in names else (1,))
+        for ink in (("set", "flip") if "ink" in names else ("set",))
+        for place in places
+    ]
+
+
+def alike(machine, one, other):
+    return not any(unlike_dots(machine, start, one, start, other) for start in some_starts(machine, one, other))
+
+
+def leaves_alike(machine, one, other):
+    """Whether two programs leave the same behind from all settings: from some with each setting at each worth."""
+    starts = [
+        (x, x, turn, font, scale, ink)
+        for x in (-7, 0, 99) for turn in range(4) for font in range(len(machine[1])) for scale in (1, 2, 3)
+        for ink in ("set", "flip")
+    ]
+    return all(behind(start, one) == behind(start, other) for start in starts)

@@ -114,3 +114,50 @@ def check_start(test, call, *rest, odd_rest=()):
         with test.assertRaises(BadProgram) as caught:
             call(SMALL, PLAIN, program, *odd_rest)
         test.assertEqual(caught.exception.number, number)
+
+
+def put_in(program, at, command):
+    return program[:at] + (command,) + program[at:]
+
+
+def left_out(program, at):
+    return program[:at] + program[at + 1:]
+
+
+def changed(chance, machine, program, words=WORDS):
+    """A program that is like another one but for a little."""
+    if not machine[2]:
+        words = tuple(word for word in words if word != "field")
+    at = chance.randint(0, len(program))
+    if at == len(program) or chance.random() < 0.3:
+        return put_in(program, at, some_command(chance, machine, words))
+    if chance.random() < 0.3:
+        return left_out(program, at)
+    if chance.random() < 0.5:
+        return put_in(program, chance.randint(0, len(program)), program[at])
+    return program[:at] + program[at:at + 2][::-1] + program[at + 2:]
+
+
+def near(program):
+    """The program with all places near to the origin, so that all origins can be tried."""
+    return tuple(
+        command[:1] + tuple(max(-1, min(1, place)) for place in command[1:3]) + command[3:]
+        if command[0] in ("home", "move", "box", "clear", "field") else command
+        for command in program
+    )
+
+
+# Machines of which all looks and all origins can be gone over.
+TINY_MACHINES = (
+    ((2, 2), ((1, 1),), (("A", 1),)), ((3, 1), ((2, 1),), (("A", 1), ("C", 1))), ((1, 2), ((1, 2), (1, 1)), (("B", 1),)),
+    ((2, 1), ((2, 2),), (("A", 1),)), ((1, 1), ((1, 1), (2, 1)), (("A", 2),)), ((3, 2), ((1, 1),), ()),
+)
+
+
+def tiny_cases(seed, many, words=WORDS, longest=6):
+    """So many triples of a machine and two programs of it that are much the same."""
+    chance = Random(seed)
+    for number in range(many):
+        machine = TINY_MACHINES[number % len(TINY_MACHINES)]
+        one = near(some_program(chance, machine, chance.randint(1, longest), words))
+        yield machine, one, near(changed(chance, machine, one, words))
