@@ -178,8 +178,9 @@ def many_shared(one, other):
     """How many SERIALS of one show TEXTS that other shows."""
     need_like_runs(one, other)
     met = meeting(one, other)
-    if met is None or met[0] >= one[3]:
+    if met is None:
         return 0
     first, period, step, place, around = met
+    # FIRST is less than PERIOD, so there are none where the run ends ahead of it.
     many = (one[3] - 1 - first) // period + 1
     return hits(step, place, around, min(other[3], around) - 1, many)

@@ -77,8 +77,9 @@ def times(run, text):
     need_run(run)
     need_text(run[0], text)
     serial = first_serial(run, text)
-    if serial is None or serial >= run[3]:
+    if serial is None:
         return 0
+    # It is one of the first round; where the run ends ahead of it, this is -1 rounds and one.
     return ((run[3] - 1 - serial) // round_length(run) + 1) * run[4]
 
 
@@ -125,8 +126,6 @@ def gaps(run):
     around = round_length(run)
     unit = size_of(run[0]) // around
     shown = min(run[3], around)
-    if shown == 1:
-        return ((size_of(run[0]), 1),)
     on, back = nearest(run[2] // unit % around, around, shown - 1)
     found = {}
     # From a SERIAL the next number is shown by going on to a later SERIAL, else back to one ahead, else by both.

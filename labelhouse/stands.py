@@ -80,17 +80,17 @@ def live_marks(stands, marks, mask):
     What is drawn ahead of a clear, or of a box that is set, does not count.
     """
     found = []
-    for word, number in marks:
+    for word, number in marks[::-1]:
         if mask >> number & 1 == 1:
             if word == "clear":
-                found = []
-            elif stands[number][4] != ():
+                break
+            if stands[number][4] != ():
                 found.append((word, number))
-            elif word == "set":
-                found = [(word, -1)]
             else:
                 found.append((word, -1))
-    return tuple(found)
+                if word == "set":
+                    break
+    return tuple(found[::-1])
 
 
 def writes_there(stands, marks, spot):

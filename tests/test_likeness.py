@@ -206,6 +206,7 @@ class AlikeTest(unittest.TestCase):
     def test_by_hand(self):
         inks = ("ink", "set"), ("ink", "flip")
         a, b = ("field", 0, 0, "A"), ("field", 0, 0, "B")
+        wipe = ("clear", 0, 0, 2, 1)
         for one, other, wanted in (
             ((), (), True),
             ((("home", 5, 5),), (), True),
@@ -229,10 +230,20 @@ class AlikeTest(unittest.TestCase):
             ((BOX, inks[1], a), (inks[1], a, inks[0], BOX), False),
             (inks[:1] + (BOX, a), inks[:1] + (a, BOX), True),
             (inks[1:] + (a, a), (), True),
+            # The set comes ahead of the flip, so it is as good as a flip; behind it, it is not.
+            (inks[:1] + (a,) + inks[1:] + (b,), inks[1:] + (a, b), True),
+            (inks[1:] + (b,) + inks[:1] + (a,), inks[1:] + (b, a), False),
+            # What is drawn alike at the begin or at the end does not tell whether all between is.
+            (inks[:1] + (BOX, ("box", 0, 1, 1, 1), wipe), inks[:1] + (("box", 1, 0, 1, 1), BOX, wipe), False),
+            (inks[:1] + (BOX, wipe, ("box", 0, 1, 1, 1)), inks[:1] + (("box", 1, 0, 1, 1), wipe), False),
+            (inks[:1] + (BOX, wipe), inks[:1] + (("box", 1, 0, 1, 1), wipe), True),
+            # What is told is black where what is kept is not, from all origins but one.
+            (inks[:1] + (("turn", 0), BOX, ("home", 0, 0), BOX), inks[:1] + (("turn", 0), BOX), False),
+            (inks[:1] + (("home", 0, 0), ("turn", 0), BOX, ("move", 0, 0), BOX), inks[:1] + (("plain",), BOX), True),
             # All points of the one stand where those of the other one stand, whatever the scale; of one dot alone.
             ((("scale", 2), a), (("scale", 1), a), False),
         ):
-            machine = ((2, 1),) + DOT[1:]
+            machine = ((2, 2 if wipe in one else 1),) + DOT[1:]
             self.assertEqual(self.check(machine, one, other), wanted, (one, other))
             self.assertEqual(alike(machine, other, one), wanted, (one, other))
 
@@ -283,6 +294,8 @@ class AlikeTest(unittest.TestCase):
         for font, most, wanted in (((1, 1), 1, True), ((1, 1), 2, False), ((1, 2), 1, False), ((2, 1), 1, False)):
             machine = ((3, 3), (font,), (("A", most),))
             self.assertEqual(self.check_apart(machine, head + scaled, head + scaled[2:]) is None, wanted, (font, most))
+            told = head + (("home", 0, 0),)
+            self.assertEqual(self.check_apart(machine, told + scaled, told + scaled[2:]) is None, wanted, (font, most))
         # A field that is kept has those of the one that is told from one origin alone.
         kept = (("scale", 1), FIELD, ("home", 0, 0), FIELD)
         for size, font, most, wanted in (
@@ -298,6 +311,72 @@ class AlikeTest(unittest.TestCase):
         machine = ((3, 1), ((1, 1),), (("A", 3),))
         self.assertIsNone(self.check_apart(machine, head + twice, head + twice[:2] + twice[2:3]))
         self.assertIsNotNone(self.check_apart(machine, head + twice + (FIELD,), head + twice))
+
+    def test_one_turn_alone_tells(self):
+        # A box of two dots, of which all are cleared but the one that it has by one turn alone.
+        ends = ((1, 0), (0, 1), (-1, 0), (0, -1))
+        for turn, end in enumerate(ends):
+            hidden = (("turn", 0), BOX) + tuple(("clear", x, y, 1, 1) for x, y in ends if (x, y) != end)
+            one, other = (("ink", "set"), ("box", 0, 0, 2, 1)) + hidden, (("ink", "set"),) + hidden
+            self.assertEqual(self.check_apart(DOT, one, other)[0][2:], (turn, 0, 1, "set"))
+            self.assertIsNone(self.check_apart(DOT, (("turn", 3 - turn),) + one, (("turn", 3 - turn),) + other))
+
+    def test_one_scale_alone_tells(self):
+        # Two fields of two signs; all columns are cleared but some where the first one has another sign at one scale.
+        machine = ((1, 1), ((1, 1),), (("A", 2),))
+        for told, columns, scale in ((2, (0, 1), 1), (3, (2,), 2), (2, (2,), 3)):
+            head = (("ink", "set"), ("turn", 0), ("font", 0))
+            hidden = tuple(("clear", x, 0, 1, 3) for x in range(6) if x not in columns) + (("clear", 0, told, 6, 3),)
+            rest = (("scale", told), FIELD) + hidden
+            self.assertEqual(self.check_apart(machine, head + (FIELD,) + rest, head + rest)[0][2:], (0, 0, scale, "set"))
+            for other in (1, 2, 3):
+                known = head + (("scale", other),)
+                found = self.check_apart(machine, known + (FIELD,) + rest, known + rest)
+                self.assertEqual(found is None, other != scale)
+
+    def test_one_font_and_one_ink_alone_tell(self):
+        machine = ((2, 1), ((1, 1), (2, 1), (3, 1)), (("A", 1),))
+        head, hidden = (("ink", "set"), ("turn", 0), ("scale", 1)), (("clear", 0, 0, 2, 1),)
+        self.assertEqual(self.check_apart(machine, head + (FIELD,) + hidden, head)[0][2:], (0, 2, 1, "set"))
+        one = (("turn", 0), BOX, BOX, ("ink", "set"), BOX)
+        self.assertIsNone(self.check_apart(machine, one, one[:1] + one[3:]))
+        self.assertEqual(self.check_apart(machine, one[:3], one[:2])[0][2:], (0, 0, 1, "flip"))
+
+    def test_one_field_behind_another_one_however_they_are_turned(self):
+        # All dots of the first field that the second one does not reach are cleared, so the first one is seen if they
+        # do not have the same glyph dot at some dot that both reach.
+        chance = Random(38)
+        found = {True: 0, False: 0}
+        for _ in range(1500):
+            most, font = chance.choice(((1, (1, 1)), (1, (2, 1)), (1, (1, 2)), (1, (2, 2)), (2, (1, 1)), (1, (3, 3))))
+            machine = ((9, 9), (font,), (("A", most),))
+            draws, reached = [], []
+            for _ in range(2):
+                x, y = chance.randint(-2, 2), chance.randint(-2, 2)
+                start = (4, 4, chance.randint(0, 3), 0, chance.randint(1, 2), "set")
+                draws.append((("turn", start[2]), ("scale", start[4]), ("field", x, y, "A")))
+                reached.append(dict(oracle.placed(machine, start, draws[-1][2])))
+            alone = [dot for dot in reached[0] if dot not in reached[1]]
+            same = all(source == reached[1].get(dot, source) for dot, source in reached[0].items())
+            if len(alone) <= 48 and len(alone) < len(reached[0]):
+                found[same] += 1
+                hidden = (("turn", 0),) + tuple(("clear", x - 4, y - 4, 1, 1) for x, y in alone)
+                for head in ((("ink", "set"), ("font", 0)), (("plain",), ("home", 4, 4))):
+                    one, other = head + draws[0] + draws[1] + hidden, head + draws[1] + hidden
+                    self.assertEqual(self.check_apart(machine, one, other) is None, same, (machine, one))
+        self.assertTrue(min(found.values()) > 40, found)
+
+    def test_a_turned_field_that_is_kept_behind_a_told_one(self):
+        # From some origin any glyph dot of the kept field stands at any dot.
+        for size in ((1, 1), (2, 2), (2, 1), (1, 3)):
+            for font in ((1, 1), (2, 1), (1, 2), (2, 2)):
+                machine = (size, (font,), (("A", 1),))
+                for turn in range(4):
+                    for scale in (1, 2, 3):
+                        kept = (("ink", "set"), ("font", 0), ("scale", scale), ("turn", turn))
+                        told = (("plain",), ("scale", 3), FIELD)
+                        found = self.check_apart(machine, kept + (FIELD,) + told, kept + told)
+                        self.assertEqual(found is None, font == (1, 1))
 
     def test_what_is_told_hides_what_is_ahead(self):
         machine = ((3, 3), ((3, 3), (1, 1)), (("A", 1),))
