@@ -92,6 +92,22 @@ class FromTest(unittest.TestCase):
                 other = put_in(put_in(order, at, ("ink", "flip")), 0, ("ink", "set"))
                 self.check(machine, PLAIN, one, other)
 
+    def test_dots_that_are_drawn_nearly_as_those_ahead(self):
+        machine = ((2, 1), ((1, 1),), (("A", 1), ("B", 1), ("C", 1)))
+        inks = ("ink", "set"), ("ink", "flip")
+        a, b = (("field", 0, 0, "A"), ("field", 1, 0, "A")), (("field", 0, 0, "B"), ("field", 1, 0, "B"))
+        first = (a[0], b[0]), (b[0], a[0])
+        for one, other in (
+            ((inks[1], a[1], inks[0], b[1]), (b[1], inks[1], a[1])),
+            ((a[1], b[1]), (b[1], b[1])),
+            ((a[1], b[1]), (b[1], ("field", 1, 0, "C"))),
+            ((a[1], b[1]), (("box", 1, 0, 1, 1), a[1])),
+            ((a[1], ("clear", 1, 0, 1, 1), b[1]), (b[1], a[1])),
+        ):
+            self.assertTrue(alike_from(machine, PLAIN, *first))
+            self.assertEqual(apart_from(machine, PLAIN, first[0] + one, first[1] + other)[:2], (1, 0))
+            self.check(machine, PLAIN, first[0] + one, first[1] + other)
+
     def test_only_these_settings_count(self):
         one, other = (("turn", 1), BOX), (BOX,)
         machine = ((3, 3), ((1, 1),), ())
